@@ -1,0 +1,60 @@
+// Package gauge: numbers that are measured, packed, and steer how many work: see DOC.md.
+package gauge
+
+// Errno is what a call answers: OK or the reason for a refusal.
+type Errno int
+
+const (
+	OK       Errno = 0
+	ErrLong  Errno = 1 // a text above its bound
+	ErrForm  Errno = 2 // no number's text
+	ErrMany  Errno = 3 // too many samples or lists
+	ErrChunk Errno = 4 // no chunk
+	ErrArg   Errno = 5 // a number that may not be
+	ErrValue Errno = 6 // a value that is no number
+	ErrOld   Errno = 7 // a sample of a slice that is kept no more
+	ErrSoon  Errno = 8 // a sample of a slice that has not begun
+	ErrEmpty Errno = 9 // no sample to tell of
+)
+
+// Sample is a time and a value, by its bits.
+type Sample struct {
+	T int
+	V uint64
+}
+
+// Meter counts samples in slices of time.
+type Meter struct{}
+
+// Pack tells the chunk of some samples (P4).
+func Pack(samples []Sample) (string, Errno) { return "", OK }
+
+// Unpack tells the samples of a chunk (P4).
+func Unpack(chunk string) ([]Sample, Errno) { return nil, OK }
+
+// PackAll tells the chunks of lists of samples (P4).
+func PackAll(lists [][]Sample) ([]string, Errno) { return nil, OK }
+
+// Merge tells the samples of lists as one list (P5).
+func Merge(lists ...[]Sample) ([]Sample, Errno) { return nil, OK }
+
+// New makes a meter (P6).
+func New(slices int, width int) (*Meter, Errno) { return nil, OK }
+
+// Tick moves a meter's clock (P6).
+func (m *Meter) Tick(t int) Errno { return OK }
+
+// Add counts a sample (P6).
+func (m *Meter) Add(t int, value uint64) Errno { return OK }
+
+// Count tells how many samples there are (P7).
+func (m *Meter) Count(k int) (int, Errno) { return 0, OK }
+
+// Quantile tells the bucket below which a part of the samples lies (P7).
+func (m *Meter) Quantile(k int, a int, b int) (uint64, Errno) { return 0, OK }
+
+// Rule sets by what Decide decides (P8).
+func (m *Meter) Rule(low uint64, high uint64, least int, most int, rest int) Errno { return OK }
+
+// Decide tells how many workers there are from now on (P8).
+func (m *Meter) Decide(k int, a int, b int) (int, Errno) { return 0, OK }
