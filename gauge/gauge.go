@@ -26,12 +26,6 @@ type Sample struct {
 // Meter counts samples in slices of time.
 type Meter struct{}
 
-// Pack tells the chunk of some samples (P4).
-func Pack(samples []Sample) (string, Errno) { return "", OK }
-
-// Unpack tells the samples of a chunk (P4).
-func Unpack(chunk string) ([]Sample, Errno) { return nil, OK }
-
 // PackAll tells the chunks of lists of samples (P4).
 func PackAll(lists [][]Sample) ([]string, Errno) { return nil, OK }
 
