@@ -23,29 +23,11 @@ type Sample struct {
 	V uint64
 }
 
-// Meter counts samples in slices of time.
-type Meter struct{}
-
 // PackAll tells the chunks of lists of samples (P4).
 func PackAll(lists [][]Sample) ([]string, Errno) { return nil, OK }
 
 // Merge tells the samples of lists as one list (P5).
 func Merge(lists ...[]Sample) ([]Sample, Errno) { return nil, OK }
-
-// New makes a meter (P6).
-func New(slices int, width int) (*Meter, Errno) { return nil, OK }
-
-// Tick moves a meter's clock (P6).
-func (m *Meter) Tick(t int) Errno { return OK }
-
-// Add counts a sample (P6).
-func (m *Meter) Add(t int, value uint64) Errno { return OK }
-
-// Count tells how many samples there are (P7).
-func (m *Meter) Count(k int) (int, Errno) { return 0, OK }
-
-// Quantile tells the bucket below which a part of the samples lies (P7).
-func (m *Meter) Quantile(k int, a int, b int) (uint64, Errno) { return 0, OK }
 
 // Rule sets by what Decide decides (P8).
 func (m *Meter) Rule(low uint64, high uint64, least int, most int, rest int) Errno { return OK }
