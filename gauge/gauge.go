@@ -22,15 +22,3 @@ type Sample struct {
 	T int
 	V uint64
 }
-
-// PackAll tells the chunks of lists of samples (P4).
-func PackAll(lists [][]Sample) ([]string, Errno) { return nil, OK }
-
-// Merge tells the samples of lists as one list (P5).
-func Merge(lists ...[]Sample) ([]Sample, Errno) { return nil, OK }
-
-// Rule sets by what Decide decides (P8).
-func (m *Meter) Rule(low uint64, high uint64, least int, most int, rest int) Errno { return OK }
-
-// Decide tells how many workers there are from now on (P8).
-func (m *Meter) Decide(k int, a int, b int) (int, Errno) { return 0, OK }

@@ -16,11 +16,14 @@ const (
 	coarseBits = 45 // the lowest of a value, which its bucket leaves out
 )
 
-// Meter counts samples in slices of time.
+// Meter counts samples in slices of time, and says by them how many workers there should be.
 type Meter struct {
-	width int
-	clock int
-	kept  []tally // of each slice that is kept, the present one first
+	width   int
+	clock   int
+	kept    []tally // of each slice that is kept, the present one first
+	rule    *rule   // nil as long as there is none
+	workers int
+	changed int // where the clock was when Decide last changed the workers
 }
 
 // New makes a meter (P6).
@@ -28,7 +31,8 @@ func New(slices int, width int) (*Meter, Errno) {
 	if slices < 1 || slices > maxSlices || width < 1 || width > maxWidth {
 		return nil, ErrArg
 	}
-	return &Meter{width: width, kept: make([]tally, slices)}, OK
+	// The longest rest has gone by since then, so that none holds back the first change.
+	return &Meter{width: width, kept: make([]tally, slices), workers: 1, changed: -maxTime}, OK
 }
 
 // Tick moves a meter's clock (P6).
@@ -59,7 +63,7 @@ func (m *Meter) Add(t int, value uint64) Errno {
 	if t < 0 || t > maxTime {
 		return ErrArg
 	}
-	if math.IsNaN(math.Float64frombits(value)) {
+	if isNoNumber(value) {
 		return ErrValue
 	}
 	age := m.age(t)
@@ -74,6 +78,10 @@ func (m *Meter) Add(t int, value uint64) Errno {
 	}
 	m.kept[age][bucketOf(value)]++
 	return OK
+}
+
+func isNoNumber(value uint64) bool {
+	return math.IsNaN(math.Float64frombits(value))
 }
 
 // bucketOf tells the bucket of a number or an infinity: an infinity has none of the bits that are left out.

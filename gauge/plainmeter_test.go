@@ -15,10 +15,22 @@ const (
 	maxTime              = 1099511627776
 )
 
-// plainMeter forgets no sample: what is kept no more is passed over when it is asked.
+// plainMeter forgets nothing: samples that are kept no more, and rules and changes that others have followed, are passed over when it is asked.
 type plainMeter struct {
 	slices, width, clock int
 	samples              []gauge.Sample
+	rules                []plainRule
+	workers              int
+	changes              []int // the times at which decide changed the workers
+}
+
+type plainRule struct {
+	low, high         uint64
+	least, most, rest int
+}
+
+func newPlain(slices, width int) plainMeter {
+	return plainMeter{slices: slices, width: width, workers: 1}
 }
 
 // beginOf tells the first time of the slice that is k - 1 ahead of the present one.
@@ -77,6 +89,53 @@ func (p *plainMeter) quantile(k, a, b int) (uint64, gauge.Errno) {
 		return 0, gauge.ErrEmpty
 	}
 	return last[plainRank(a, len(last), b)-1], gauge.OK
+}
+
+func (p *plainMeter) rule(r plainRule) gauge.Errno {
+	switch {
+	case r.low&^signBit > infinity || r.high&^signBit > infinity:
+		return gauge.ErrValue
+	case signedExact(r.low).Cmp(signedExact(r.high)) > 0:
+		return gauge.ErrArg
+	case r.least < 1 || r.least > r.most || r.most > 100 || r.rest < 0 || r.rest > maxTime:
+		return gauge.ErrArg
+	}
+	p.rules = append(p.rules, r)
+	for p.workers < r.least {
+		p.workers++
+	}
+	for p.workers > r.most {
+		p.workers--
+	}
+	return gauge.OK
+}
+
+func (p *plainMeter) decide(k, a, b int) (int, gauge.Errno) {
+	bucket, err := p.quantile(k, a, b)
+	switch {
+	case len(p.rules) == 0 || err == gauge.ErrArg:
+		return 0, gauge.ErrArg
+	case p.rests() || err == gauge.ErrEmpty:
+		return p.workers, gauge.OK
+	}
+	r, exact := p.rules[len(p.rules)-1], signedExact(bucket)
+	switch {
+	case exact.Cmp(signedExact(r.high)) > 0 && p.workers < r.most:
+		p.workers++
+		p.changes = append(p.changes, p.clock)
+	case exact.Cmp(signedExact(r.low)) < 0 && p.workers > r.least:
+		p.workers--
+		p.changes = append(p.changes, p.clock)
+	}
+	return p.workers, gauge.OK
+}
+
+// rests tells whether the last change is nearer than the last rule's rest.
+func (p *plainMeter) rests() bool {
+	if len(p.changes) == 0 {
+		return false
+	}
+	return p.clock-p.changes[len(p.changes)-1] < p.rules[len(p.rules)-1].rest
 }
 
 func plainRank(a, n, b int) int {

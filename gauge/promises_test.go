@@ -51,6 +51,23 @@ func TestCallsAtAnyList(t *testing.T) {
 	}
 }
 
+func TestCallsAtAnyNumber(t *testing.T) {
+	r := rand.New(rand.NewSource(19))
+	// Numbers of every length, of either sign.
+	number := func() int { return int(r.Uint64()) >> r.Intn(64) }
+	for range 2000 {
+		p := newPair(t, 1+r.Intn(8), 1+r.Intn(1000000))
+		p.rule(t, plainRule{r.Uint64(), r.Uint64(), 1 + r.Intn(3), 3 + r.Intn(3), r.Intn(9)})
+		p.tick(t, number())
+		p.add(t, number(), r.Uint64())
+		p.checkPart(t, number(), number(), number())
+		p.rule(t, plainRule{r.Uint64(), r.Uint64(), number(), number(), number()})
+		p.decide(t, number(), number(), number())
+		p.decide(t, p.plain.slices, 1, 1)
+		p.check(t)
+	}
+}
+
 func TestCallsAtLongTexts(t *testing.T) {
 	const long = 1 << 24
 	head := bytesOf(headOf(40, gauge.Sample{}))

@@ -200,7 +200,7 @@ func TestLowestComesFirst(t *testing.T) {
 // Every part of 1 to 12 samples, against the samples written out and sorted.
 func TestEveryPart(t *testing.T) {
 	r := rand.New(rand.NewSource(15))
-	m, plain := newMeter(t, 1, 1), plainMeter{slices: 1, width: 1}
+	m, plain := newMeter(t, 1, 1), newPlain(1, 1)
 	for range 12 {
 		value := numbersInOrder[r.Intn(len(numbersInOrder))]
 		checkAdd(t, m, 0, value, plain.add(0, value))
